@@ -1,0 +1,1 @@
+"""Cordsounds: a sound machine of parts joined by cords."""

@@ -1,0 +1,44 @@
+"""What several tests need: any things, and how a refusal is looked at."""
+
+import unittest
+
+from cordsounds.errors import NoNumber, Over, Ring, SoundError
+from cordsounds.workers import Worker
+
+PARTS = {
+    "from": ("from", "left"),
+    "wave": ("wave", "saw", 100),
+    "slow": ("slow", "tri", 100),
+    "noise": ("noise", 7),
+    "shape": ("shape", 1000, 500, 300, 200),
+    "taps": ("taps", (64, -128, 256), "clip"),
+    "mix": ("mix", (256, -256), "wrap"),
+    "times": ("times", "fold"),
+    "delay": ("delay", 3),
+    "follow": ("follow", 10),
+}
+
+
+def any_things():
+    """Any things that are no part, no name of anything, and no number but 0, 1 and worse ones."""
+    return [
+        True, False, None, -(10 ** 30 - 1), 10 ** 30 - 1, "", " ", "\n", "Clip", "clip ", "A", "1", "a1",
+        "abcdefghi", "~" * 4000, [], (), {}, [0], (0,), [True], ["clip"], ("clip",), {"clip": True}, {0: "clip"},
+        {None: []}, {(1, ("a",)): {}}, [[[[[[None]]]]]], [0] * 650, (None,) * 650, {at: at for at in range(650)},
+        Worker(("noise", 1)), NoNumber(3), SoundError("text"), Over([1]), Ring(found=None),
+    ]
+
+
+class SoundTest(unittest.TestCase):
+    def refused(self, refusal, found, deed, *args, **named):
+        """Sees to it that a deed is refused just so, with the very thing, and changes nothing handed in."""
+        before = repr((args, named))
+        with self.assertRaises(refusal) as caught:
+            deed(*args, **named)
+        self.assertIs(caught.exception.__class__, refusal)
+        self.assertIs(caught.exception.found, found)
+        self.assertEqual(repr((args, named)), before)
+
+    def tells_truth(self, answer, wanted):
+        """Sees to it that the answer is True or False itself, and the wanted one."""
+        self.assertIs(answer, wanted)
