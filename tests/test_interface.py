@@ -13,6 +13,7 @@ FUNCTIONS = {
     "cordsounds.parts": {
         "is_part": ["thing"], "ports_of": ["part"], "settings_of": ["part"], "turned": ["part", "name", "number"],
     },
+    "cordsounds.plain": {"run": ["patch", "ins", "many"]},
 }
 CLASSES = {
     "cordsounds.workers": {
@@ -22,7 +23,39 @@ CLASSES = {
             "__eq__": ["self", "other"],
         },
     },
+    "cordsounds.patch": {
+        "Patch": {
+            "__init__": ["self", "parts", "cords", "outs"], "parts": ["self"], "cords": ["self"], "outs": ["self"],
+            "ins": ["self"], "order": ["self"], "part": ["self", "name"], "start": ["self", "goal", "port"],
+            "is_order": ["self", "thing"], "with_part": ["self", "name", "part"], "with_cord": ["self", "cord"],
+            "without_cord": ["self", "goal", "port"], "__eq__": ["self", "other"], "__len__": ["self"],
+        },
+    },
+    "cordsounds.plain": {
+        "PlainMachine": {
+            "__init__": ["self", "patch"], "sample": ["self", "ins"], "patch": ["self"], "time": ["self"],
+            "worth": ["self", "name"], "foldings": ["self"], "stands": ["self"], "twin": ["self"],
+            "__eq__": ["self", "other"], "workers": ["self"], "re_patch": ["self", "patch"],
+        },
+    },
+    "cordsounds.blocks": {
+        "BlockMachine": {
+            "__init__": ["self", "patch", "size", "order"], "run": ["self", "ins", "many"], "blocks": ["self"],
+            "patch": ["self"], "time": ["self"], "foldings": ["self"], "stands": ["self"], "twin": ["self"],
+        },
+    },
+    "cordsounds.live": {
+        "Live": {
+            "__init__": ["self", "patch"], "sample": ["self", "ins"],
+            "turn": ["self", "name", "setting", "number", "over"], "put_cord": ["self", "start", "goal", "port"],
+            "take_cord": ["self", "goal", "port"], "put_part": ["self", "name", "part"], "patch": ["self"],
+            "time": ["self"], "worth": ["self", "name"], "turning": ["self"], "foldings": ["self"],
+            "stands": ["self"], "twin": ["self"], "__eq__": ["self", "other"],
+        },
+    },
 }
+# Arguments that may be handed in by their names alone, with their defaults.
+BY_NAME = [("cordsounds.blocks", "BlockMachine", "__init__", "order", None), ("cordsounds.live", "Live", "turn", "over", 0)]
 
 
 class InterfaceTest(unittest.TestCase):
@@ -40,6 +73,12 @@ class InterfaceTest(unittest.TestCase):
                 self.assertEqual(made.__module__, place)
                 for method, names in methods.items():
                     self.assertEqual(list(inspect.signature(vars(made)[method]).parameters), names)
+
+    def test_arguments_by_name_alone(self):
+        for place, name, method, argument, default in BY_NAME:
+            made = vars(getattr(importlib.import_module(place), name))[method]
+            found = inspect.signature(made).parameters[argument]
+            self.assertEqual((found.kind, found.default), (inspect.Parameter.KEYWORD_ONLY, default))
 
 
 if __name__ == "__main__":
