@@ -9,6 +9,7 @@ KINDS = ("from", "wave", "slow", "noise", "shape", "taps", "mix", "times", "dela
 TABLES = ("saw", "square", "tri", "pulse", "hump")
 MANNERS = ("clip", "wrap", "fold")
 INS = ("left", "right", "knob")
+VOICE_INS = ("gate", "pitch", "force", "gate", "knob")
 EDGES = [-2048, -2047, -1, 0, 0, 1, 2046, 2047]
 
 
@@ -83,6 +84,13 @@ def random_patches(seed, many):
         yield chance, random_lists(chance, 1 + at % 12)
 
 
+def of_voices(chance, lists):
+    """The lists of a patch, its ins those of a Choir's voices and one of another name."""
+    parts, cords, outs = lists
+    named = [(name, ("from", chance.choice(VOICE_INS)) if part[0] == "from" else part) for name, part in parts]
+    return named, cords, outs
+
+
 def random_order(chance, patch):
     """Any order of a Patch that is one."""
     left = [name for name, _ in patch.parts()]
@@ -130,3 +138,17 @@ def loud():
 def lists_of(patch):
     """All that a Patch is made of."""
     return patch.parts(), patch.cords(), patch.outs()
+
+
+# Its outs tell what comes into a voice.
+BARE = ([("g", ("from", "gate")), ("p", ("from", "pitch")), ("f", ("from", "force")), ("k", ("from", "knob"))],
+        [], [("gate", "g"), ("pitch", "p"), ("force", "f"), ("knob", "k")])
+# A tone of a key, with a shape that goes on sounding when the key is let go of, and a mix that folds when loud.
+TONE = (
+    [("pit", ("from", "pitch")), ("gat", ("from", "gate")), ("forc", ("from", "force")),
+     ("osc", ("wave", "tri", 100)), ("env", ("shape", 700, 90, 900, 60)), ("amp", ("times", "clip")),
+     ("mixed", ("mix", (200, 256, 16), "clip")), ("late", ("delay", 5))],
+    [("pit", "osc", "pitch"), ("gat", "env", "gate"), ("osc", "amp", "a"), ("env", "amp", "b"),
+     ("amp", "mixed", "a"), ("late", "mixed", "b"), ("forc", "mixed", "c"), ("mixed", "late", "in")],
+    [("left", "mixed"), ("right", "late")],
+)

@@ -14,6 +14,9 @@ FUNCTIONS = {
         "is_part": ["thing"], "ports_of": ["part"], "settings_of": ["part"], "turned": ["part", "name", "number"],
     },
     "cordsounds.plain": {"run": ["patch", "ins", "many"]},
+    "cordsounds.songs": {"is_pattern": ["thing"], "moved": ["pattern", "keys"], "stretched": ["pattern", "factor"]},
+    "cordsounds.sounder": {"replayed": ["patch", "many", "log", "samples", "song"]},
+    "cordsounds.bounds": {"bounds": ["part"], "reaching": ["part"], "never_folds": ["part"]},
 }
 CLASSES = {
     "cordsounds.workers": {
@@ -53,9 +56,43 @@ CLASSES = {
             "stands": ["self"], "twin": ["self"], "__eq__": ["self", "other"],
         },
     },
+    "cordsounds.choir": {
+        "Choir": {
+            "__init__": ["self", "patch", "many"], "sample": ["self"], "press": ["self", "key", "force"],
+            "let_go": ["self", "key"], "pedal": ["self", "down"],
+            "turn": ["self", "name", "setting", "number", "over"], "put_cord": ["self", "start", "goal", "port"],
+            "take_cord": ["self", "goal", "port"], "patch": ["self"], "how_many": ["self"], "time": ["self"],
+            "is_pedal_down": ["self"], "voices": ["self"], "foldings": ["self"], "stolen": ["self"],
+            "was_clipped": ["self"], "twin": ["self"], "__eq__": ["self", "other"], "stands": ["self"],
+            "lives": ["self"],
+        },
+    },
+    "cordsounds.songs": {
+        "Song": {
+            "__init__": ["self", "patterns", "row", "tempos"], "sample_of": ["self", "tick"], "ticks": ["self"],
+            "notes": ["self"], "deeds": ["self"], "patterns": ["self"], "row": ["self"], "tempos": ["self"],
+            "with_tempos": ["self", "tempos"], "with_pattern": ["self", "name", "pattern"],
+            "__eq__": ["self", "other"],
+        },
+    },
+    "cordsounds.sounder": {
+        "Sounder": {
+            "__init__": ["self", "patch", "many", "song"], "samples": ["self", "many"],
+            "press": ["self", "key", "force"], "let_go": ["self", "key"], "pedal": ["self", "down"],
+            "turn": ["self", "name", "setting", "number", "over"], "put_cord": ["self", "start", "goal", "port"],
+            "take_cord": ["self", "goal", "port"], "save": ["self", "name"], "lead": ["self", "name", "over"],
+            "put_back": ["self", "name"], "stands": ["self"], "recorded": ["self"], "clipped": ["self"],
+            "log": ["self"], "choir": ["self"], "song": ["self"], "time": ["self"], "twin": ["self"],
+        },
+    },
 }
 # Arguments that may be handed in by their names alone, with their defaults.
-BY_NAME = [("cordsounds.blocks", "BlockMachine", "__init__", "order", None), ("cordsounds.live", "Live", "turn", "over", 0)]
+BY_NAME = [("cordsounds.blocks", "BlockMachine", "__init__", "order", None),
+           ("cordsounds.live", "Live", "turn", "over", 0), ("cordsounds.choir", "Choir", "turn", "over", 0),
+           ("cordsounds.sounder", "Sounder", "__init__", "song", None),
+           ("cordsounds.sounder", "Sounder", "turn", "over", 0), ("cordsounds.sounder", "Sounder", "lead", "over", 0)]
+# Those that may be left out, or handed in by their places.
+DEFAULTS = [("cordsounds.choir", "Choir", "press", "force", 1024), ("cordsounds.sounder", "Sounder", "press", "force", 1024)]
 
 
 class InterfaceTest(unittest.TestCase):
@@ -73,6 +110,16 @@ class InterfaceTest(unittest.TestCase):
                 self.assertEqual(made.__module__, place)
                 for method, names in methods.items():
                     self.assertEqual(list(inspect.signature(vars(made)[method]).parameters), names)
+
+    def test_defaults(self):
+        for place, name, method, argument, default in DEFAULTS:
+            made = vars(getattr(importlib.import_module(place), name))[method]
+            found = inspect.signature(made).parameters[argument]
+            self.assertEqual((found.kind, found.default), (inspect.Parameter.POSITIONAL_OR_KEYWORD, default))
+
+    def test_a_functions_argument_by_name_alone(self):
+        found = inspect.signature(importlib.import_module("cordsounds.sounder").replayed).parameters["song"]
+        self.assertEqual((found.kind, found.default), (inspect.Parameter.KEYWORD_ONLY, None))
 
     def test_arguments_by_name_alone(self):
         for place, name, method, argument, default in BY_NAME:

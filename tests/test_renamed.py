@@ -3,12 +3,17 @@
 import unittest
 
 from cordsounds.blocks import BlockMachine
+from cordsounds.choir import Choir
 from cordsounds.errors import Ring
 from cordsounds.live import Live
 from cordsounds.parts import settings_of
 from cordsounds.patch import Patch
 from cordsounds.plain import PlainMachine, run
-from patches import INS, at, lists_of, random_lists, random_names, random_order, random_patches, random_rows
+from cordsounds.songs import Song
+from cordsounds.sounder import Sounder
+from patches import (
+    INS, VOICE_INS, at, lists_of, of_voices, random_lists, random_names, random_order, random_patches, random_rows)
+from songlists import random_song
 from things import SoundTest
 
 
@@ -19,6 +24,8 @@ class Names:
         self.parts = self.others(chance, [name for name, _ in lists[0]])
         self.outs = self.others(chance, [name for name, _ in lists[2]])
         self.ins = self.others(chance, list(INS) + ["other"])
+        # What a voice gets is called so, and nothing else may be.
+        self.ins.update({name: name for name in VOICE_INS[:3]})
 
     def others(self, chance, names):
         return dict(zip(names, random_names(chance, len(names))))
@@ -121,6 +128,47 @@ class RenamedTest(SoundTest):
                 self.assertEqual([(names.parts[row[0]],) + row[1:] for row in live.turning()], renamed.turning())
             self.assertEqual(renamed.foldings(), names.of_foldings(live.foldings()))
             self.assertEqual(lists_of(renamed.patch()), names.of_lists(lists_of(live.patch())))
+
+    def voice_pairs(self, seed):
+        for chance, lists in random_patches(seed, 40):
+            lists = of_voices(chance, lists)
+            names = Names(chance, lists)
+            yield chance, names, Patch(*lists), Patch(*names.of_lists(lists))
+
+    def test_choirs(self):
+        for chance, names, patch, other in self.voice_pairs(46):
+            choir, renamed = Choir(patch, 3), Choir(other, 3)
+            for _ in range(30):
+                key = chance.randint(60, 64)
+                self.assertEqual(choir.press(key), renamed.press(key))
+                self.assertEqual(choir.let_go(key + 1), renamed.let_go(key + 1))
+                for name, part in patch.parts():
+                    for setting in settings_of(part):
+                        choir.turn(name, setting, key, over=9)
+                        renamed.turn(names.parts[name], setting, key, over=9)
+                told = choir.sample()
+                self.alike(renamed.sample(), names.of_told(told))
+                self.assertEqual(renamed.was_clipped(), [names.outs[name] for name in choir.was_clipped()])
+            self.assertEqual(renamed.foldings(), [(row[0], names.parts[row[1]], row[2]) for row in choir.foldings()])
+            self.assertEqual((renamed.voices(), renamed.stolen()), (choir.voices(), choir.stolen()))
+
+    def test_songs_and_sounders(self):
+        for chance, names, patch, other in self.voice_pairs(47):
+            patterns, row, tempos = random_song(chance)
+            keys = names.others(chance, list(patterns))
+            song = Song(patterns, row, tempos)
+            again = Song({keys[name]: steps for name, steps in patterns.items()}, [keys[name] for name in row], tempos)
+            self.assertEqual((song.notes(), song.deeds(), song.ticks()), (again.notes(), again.deeds(), again.ticks()))
+            sounder, renamed = Sounder(patch, 2, song=song), Sounder(other, 2, song=again)
+            for one in (sounder, renamed):
+                one.press(60)
+                one.samples(9)
+                one.save("a")
+                one.samples(30)
+                one.put_back("a")
+                one.samples(9)
+            self.alike(renamed.recorded(), names.of_told(sounder.recorded()))
+            self.alike(renamed.clipped(), names.of_told(sounder.clipped()))
 
 
 if __name__ == "__main__":

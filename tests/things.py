@@ -3,10 +3,13 @@
 import unittest
 
 from cordsounds.blocks import BlockMachine
+from cordsounds.choir import Choir
 from cordsounds.errors import NoNumber, Over, Ring, SoundError
 from cordsounds.live import Live
 from cordsounds.patch import Patch
 from cordsounds.plain import PlainMachine
+from cordsounds.songs import Song
+from cordsounds.sounder import Sounder
 from cordsounds.workers import Worker
 
 HUGE = 10 ** 30 - 1
@@ -24,6 +27,10 @@ PARTS = {
 }
 
 
+def a_song():
+    return Song({"a": [(1, 0, 1)]}, ["a"], [(0, 1)])
+
+
 def any_things():
     """Any things that are no part, no name of anything, and no number but 0, 1 and worse ones."""
     patch = Patch([("a", ("noise", 1))], [], [("a", "a")])
@@ -33,6 +40,7 @@ def any_things():
         {None: []}, {(1, ("a",)): {}}, [[[[[[None]]]]]], [0] * 650, (None,) * 650, {at: at for at in range(650)},
         Worker(("noise", 1)), NoNumber(3), SoundError("text"), Over([1]), Ring(found=None),
         patch, PlainMachine(patch), BlockMachine(patch, 1), Live(patch), [patch], (patch,), {"a": patch},
+        Choir(patch, 1), a_song(), Sounder(patch, 1), [a_song()],
     ]
 
 
