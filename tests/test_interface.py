@@ -17,6 +17,16 @@ FUNCTIONS = {
     "cordsounds.songs": {"is_pattern": ["thing"], "moved": ["pattern", "keys"], "stretched": ["pattern", "factor"]},
     "cordsounds.sounder": {"replayed": ["patch", "many", "log", "samples", "song"]},
     "cordsounds.bounds": {"bounds": ["part"], "reaching": ["part"], "never_folds": ["part"]},
+    "cordsounds.smaller": {
+        "unheard": ["patch"], "steady": ["patch"], "smaller": ["patch"], "parted": ["one", "other", "length"],
+        "shows_parted": ["one", "other", "thing"],
+    },
+    "cordsounds.texts": {
+        "patch_text": ["patch"], "read_patch": ["text"], "song_text": ["song"], "read_song": ["text"],
+    },
+    "cordsounds.logtexts": {
+        "log_text": ["log"], "read_log": ["text"], "samples_text": ["rows"], "read_samples": ["text"],
+    },
 }
 CLASSES = {
     "cordsounds.workers": {
@@ -84,6 +94,9 @@ CLASSES = {
             "put_back": ["self", "name"], "stands": ["self"], "recorded": ["self"], "clipped": ["self"],
             "log": ["self"], "choir": ["self"], "song": ["self"], "time": ["self"], "twin": ["self"],
         },
+    },
+    "cordsounds.desk": {
+        "Desk": {"__init__": ["self"], "say": ["self", "line"], "say_all": ["self", "lines"]},
     },
 }
 # Arguments that may be handed in by their names alone, with their defaults.

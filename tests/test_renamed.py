@@ -9,6 +9,7 @@ from cordsounds.live import Live
 from cordsounds.parts import settings_of
 from cordsounds.patch import Patch
 from cordsounds.plain import PlainMachine, run
+from cordsounds.smaller import smaller, steady, unheard
 from cordsounds.songs import Song
 from cordsounds.sounder import Sounder
 from patches import (
@@ -169,6 +170,12 @@ class RenamedTest(SoundTest):
                 one.samples(9)
             self.alike(renamed.recorded(), names.of_told(sounder.recorded()))
             self.alike(renamed.clipped(), names.of_told(sounder.clipped()))
+
+    def test_smaller_ones(self):
+        for _, names, patch, other in self.pairs(48):
+            for deed in (unheard, steady):
+                self.assertEqual(deed(other), [names.parts[name] for name in deed(patch)])
+            self.assertEqual(lists_of(smaller(other)), names.of_lists(lists_of(smaller(patch))))
 
 
 if __name__ == "__main__":

@@ -4,6 +4,7 @@ import unittest
 
 from cordsounds.blocks import BlockMachine
 from cordsounds.choir import Choir
+from cordsounds.desk import Desk
 from cordsounds.errors import NoNumber, Over, Ring, SoundError
 from cordsounds.live import Live
 from cordsounds.patch import Patch
@@ -40,7 +41,7 @@ def any_things():
         {None: []}, {(1, ("a",)): {}}, [[[[[[None]]]]]], [0] * 650, (None,) * 650, {at: at for at in range(650)},
         Worker(("noise", 1)), NoNumber(3), SoundError("text"), Over([1]), Ring(found=None),
         patch, PlainMachine(patch), BlockMachine(patch, 1), Live(patch), [patch], (patch,), {"a": patch},
-        Choir(patch, 1), a_song(), Sounder(patch, 1), [a_song()],
+        Choir(patch, 1), a_song(), Sounder(patch, 1), Desk(), [a_song()],
     ]
 
 
